@@ -1,0 +1,1 @@
+"""Whichdepot: an exact transport solver, prepared once for all supplies and demands."""
