@@ -1,7 +1,7 @@
 """What several modules share: checks of arguments, digits in texts, the order of lots, connected places."""
 
 from whichdepot.errors import BadCount, BadLength, BadSize, NoCustomer, NoDepot, NoRoute
-from whichdepot.errors import NotJoined, OtherNetwork, Repeated, TooMany
+from whichdepot.errors import NotInTree, NotJoined, OtherNetwork, Repeated, TooMany
 
 DIGITS = "0123456789"
 MOST_IN_QUOTA = 99
@@ -75,6 +75,14 @@ def checked_route(network, route):
     if (depot, customer) not in network:
         raise NoRoute((depot, customer))
     return (depot, customer)
+
+
+def checked_tree_route(tree, route):
+    """Return the route as a tuple, if the tree has it."""
+    pair = checked_route(tree.network, route)
+    if pair not in tree:
+        raise NotInTree(pair)
+    return pair
 
 
 def checked_lot(lot, depots):
