@@ -87,6 +87,12 @@ def large_networks():
     ]
 
 
+def joined_networks():
+    """Joined networks of several sizes."""
+    networks = small_networks() + all_networks(3, 3)[::11] + large_networks()
+    return [network for network in networks if network.joined]
+
+
 def rows_of(length, units):
     """All rows of so many numbers, none below 0, with the sum units."""
     if length == 1:

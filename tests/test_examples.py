@@ -4,12 +4,14 @@ import inspect
 
 from tests.helpers import Case
 
-from whichdepot import building, cycles, networks, plans, serving, shapes, shifts, splitting, totals, trees
+from whichdepot import building, cycles, lots, moves, networks, plans, quotas, rooted, serving, shapes, shifts
+from whichdepot import spanning, splitting, totals, trees
 from whichdepot.cycles import each_cycle
 from whichdepot.errors import Overflow
 from whichdepot.networks import Network
+from whichdepot.quotas import flexible_quotas
 from whichdepot.serving import serve_totals
-from whichdepot.shapes import complete_network
+from whichdepot.shapes import complete_network, stairs_network
 from whichdepot.totals import Totals
 
 FUNCTIONS = {
@@ -26,6 +28,22 @@ FUNCTIONS = {
     cycles: {"each_cycle": "network", "cycle_halves": "cycle", "is_cycle": "network cycle"},
     shifts: {"shift_plan": "plan cycle units", "shifts_between": "first second"},
     splitting: {"split_plan": "plan parts"},
+    rooted: {
+        "plan_from_depot": "tree depot", "plan_from_customer": "tree customer", "depot_way": "tree start goal",
+    },
+    spanning: {"count_trees": "network", "spanning_trees": "network"},
+    lots: {
+        "lot_room": "network quota lot", "barring_lot": "network quota", "tight_lots": "network quota",
+        "least_tight": "network quota depot",
+    },
+    quotas: {
+        "is_flexible": "network quota", "flexible_quotas": "network", "tree_with_quota": "network quota",
+        "refusing_depots": "network quota", "refusing_customers": "network quota",
+    },
+    moves: {
+        "quota_givers": "network quota taker", "quota_way": "network first second",
+        "exchange_partner": "network first second giver",
+    },
 }
 
 METHODS = {
@@ -79,6 +97,9 @@ class Examples(Case):
     def test_cycles(self):
         found = list(each_cycle(complete_network(2, 3)))
         self.same(found, [((0, 1), (0, 1)), ((0, 1), (0, 2)), ((0, 1), (1, 2))])
+
+    def test_flexible_quotas(self):
+        self.same(list(flexible_quotas(stairs_network(2))), [(0, 2), (1, 1)])
 
 
 class Interface(Case):

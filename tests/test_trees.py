@@ -1,7 +1,7 @@
 """Trees: points 22, 23, 24 and 26."""
 
-from tests.helpers import GREAT, OUTSIDE, Case, all_networks, all_totals, as_lists, as_tuples, connected_to
-from tests.helpers import large_networks, small_networks, sums_of, trees_of
+from tests.helpers import GREAT, OUTSIDE, Case, all_totals, as_lists, as_tuples, connected_to, joined_networks
+from tests.helpers import large_networks, sums_of, trees_of
 
 from whichdepot.errors import BadLength, Below, Closes, NoCustomer, NoDepot, NoRoute, NotAcross, NotInTree, NotJoined
 from whichdepot.errors import NotSpanning, Repeated
@@ -13,12 +13,6 @@ from whichdepot.trees import Tree
 
 NETWORK = Network.read("3 x 3: 0-0 0-1 1-1 1-2 2-0 2-2")
 TREE = Tree(NETWORK, [(2, 2), (0, 0), (1, 1), (0, 1), (1, 2)])
-
-
-def joined_networks():
-    """Joined networks of several sizes."""
-    networks = small_networks() + all_networks(3, 3)[::11] + large_networks()
-    return [network for network in networks if network.joined]
 
 
 def behind_by_words(tree, route):
