@@ -4,55 +4,11 @@ import itertools
 import types
 
 from tests.helpers import GREAT, Case, all_networks, as_lists, as_tuples, large_networks, small_networks, subsets
+from tests.searches import cycles_by_routes, cycles_by_words
 
 from whichdepot.cycles import cycle_halves, each_cycle, is_cycle
 from whichdepot.networks import Network
 from whichdepot.shapes import complete_network, ring_network
-
-
-def cycles_by_words(network):
-    """All cycles, found among all candidates by the words of point 19, in their order."""
-    found = []
-    for many in range(2, min(network.depots, network.customers) + 1):
-        for depots in itertools.permutations(range(network.depots), many):
-            for customers in itertools.permutations(range(network.customers), many):
-                if right_by_words(network, depots, customers):
-                    found.append((depots, customers))
-    return found
-
-
-def right_by_words(network, depots, customers):
-    """Whether two rows of different numbers of the same length are a cycle."""
-    first = [(depots[at], customers[at]) for at in range(len(depots))]
-    second = [(depots[(at + 1) % len(depots)], customers[at]) for at in range(len(depots))]
-    routes = network.routes
-    return all(r in routes for r in first + second) and depots[0] == min(depots) and customers[0] < customers[-1]
-
-
-def cycles_by_routes(network):
-    """All cycles in their order, found as the sets of routes in which each place has two routes or none."""
-    found = []
-    for many in range(4, len(network) + 1, 2):
-        for routes in itertools.combinations(network.routes, many):
-            depots = [depot for depot, _ in routes]
-            customers = [customer for _, customer in routes]
-            if all(row.count(at) == 2 for row in [depots, customers] for at in set(row)):
-                cycle = walked(routes)
-                if len(cycle[0]) * 2 == many:
-                    found.append(cycle)
-    return sorted(found, key=lambda cycle: (len(cycle[0]), cycle))
-
-
-def walked(routes):
-    """The cycle in its form that goes through the routes, beginning at the least depot."""
-    depots = [min(depot for depot, _ in routes)]
-    customers = [min(customer for depot, customer in routes if depot == depots[0])]
-    while True:
-        depot = [depot for depot, customer in routes if customer == customers[-1] and depot != depots[-1]][0]
-        if depot == depots[0]:
-            return (tuple(depots), tuple(customers))
-        depots.append(depot)
-        customers.append([at for start, at in routes if start == depot and at != customers[-1]][0])
 
 
 class Cycles(Case):

@@ -4,14 +4,18 @@ import inspect
 
 from tests.helpers import Case
 
-from whichdepot import building, cycles, lots, moves, networks, plans, quotas, rooted, serving, shapes, shifts
-from whichdepot import spanning, splitting, totals, trees
+from whichdepot import building, cheapest, costs, cycles, flips, greedy, lots, moves, networks, plans, prices, quotas
+from whichdepot import rooted, serving, shapes, shifts, spanning, splitting, tables, totals, trees
+from whichdepot.cheapest import bettering_shift
+from whichdepot.costs import Costs
 from whichdepot.cycles import each_cycle
 from whichdepot.errors import Overflow
 from whichdepot.networks import Network
+from whichdepot.plans import Plan
 from whichdepot.quotas import flexible_quotas
 from whichdepot.serving import serve_totals
 from whichdepot.shapes import complete_network, stairs_network
+from whichdepot.tables import Table
 from whichdepot.totals import Totals
 
 FUNCTIONS = {
@@ -44,6 +48,18 @@ FUNCTIONS = {
         "quota_givers": "network quota taker", "quota_way": "network first second",
         "exchange_partner": "network first second giver",
     },
+    greedy: {"lot_most": "network lot", "lot_fewest": "network lot", "greedy_quota": "network order"},
+    cheapest: {
+        "bettering_shift": "costs plan", "cheapest_plan": "costs totals", "one_more_plans": "costs quota",
+        "quota_tree": "costs quota",
+    },
+    prices: {
+        "tree_prices": "costs tree", "route_slacks": "costs tree", "is_price_tree": "costs tree",
+        "tree_worth": "costs tree totals",
+    },
+    flips: {
+        "first_price_tree": "costs", "flip_tree": "costs tree route", "settle_tree": "costs tree totals",
+    },
 }
 
 METHODS = {
@@ -68,6 +84,16 @@ METHODS = {
         "holds": "self totals", "plan_for": "self totals", "exchanged": "self out into", "turned": "self",
         "__contains__": "self route", "__len__": "self", "__iter__": "self", "__eq__": "self other",
     },
+    costs.Costs: {
+        "__init__": "self network amounts", "first_unfair": "self", "__getitem__": "self at", "__iter__": "self",
+        "__mul__": "self other", "__rmul__": "self other", "shifted": "self depot_amounts customer_amounts",
+        "raised": "self route by", "broken": "self", "turned": "self", "__eq__": "self other",
+    },
+    tables.Table: {
+        "__init__": "self costs", "__len__": "self", "__iter__": "self", "__contains__": "self quota",
+        "tree": "self quota", "tree_of_customers": "self row", "__call__": "self totals", "holders": "self totals",
+        "flips": "self quota",
+    },
 }
 
 PROPERTIES = {
@@ -75,6 +101,8 @@ PROPERTIES = {
     totals.Totals: ["supplies", "demands", "units"],
     plans.Plan: ["network", "counts", "totals", "units", "support"],
     trees.Tree: ["network", "routes", "quota", "customer_row"],
+    costs.Costs: ["network", "amounts", "fair"],
+    tables.Table: ["costs", "quotas", "customer_rows"],
 }
 
 
@@ -100,6 +128,17 @@ class Examples(Case):
 
     def test_flexible_quotas(self):
         self.same(list(flexible_quotas(stairs_network(2))), [(0, 2), (1, 1)])
+
+    def test_bettering_shift(self):
+        network = complete_network(2, 2)
+        found = bettering_shift(Costs(network, [0, 0, 0, 1]), Plan(network, [1, 0, 0, 1]))
+        self.same(found, (((0, 1), (0, 1)), -1))
+
+    def test_table(self):
+        table = Table(Costs(complete_network(2, 2), [0, 0, 0, 1]))
+        expected = [[(0, 1), (1, 0)], [(0, 1), (1, 0)], [(0, 0), (0, 1), (1, 0)]]
+        self.same([table.quotas, table.customer_rows, table.tree((1, 0)).routes], expected)
+        self.same(table.flips((1, 0)), [((0, 0), (0, 1)), ((0, 1), None), ((1, 0), None)])
 
 
 class Interface(Case):

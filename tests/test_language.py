@@ -301,6 +301,8 @@ def check_definitions(file, files):
         if node.decorator_list or node.keywords or file.above[node] is not file.tree:
             yield ("L5", node.lineno, "a class with a decorator or a keyword, or not at module level")
         names = [below.name for below in node.body if isinstance(below, ast.FunctionDef)]
+        if "__getitem__" in names and "__iter__" not in names:
+            yield ("L5", node.lineno, "__getitem__ without __iter__")
         for below in node.body:
             if isinstance(below, ast.FunctionDef) and below.name.startswith("__") and below.name not in DUNDERS:
                 yield ("L5", below.lineno, below.name)
@@ -371,6 +373,20 @@ def check_calls(file, files):
     for node in file.all(ast.Name):
         if node.id in yielding and not isinstance(file.above[node], ast.Call):
             yield ("L23", node.lineno, "a generator as a value")
+
+
+def check_generators(file, files):
+    """L23: a generator has a name of its own, and returns no value."""
+    names = [node.name for other in files for node in other.all(ast.FunctionDef)]
+    for node in file.all(ast.FunctionDef):
+        below = list(ast.walk(node))
+        if any(isinstance(one, (ast.Yield, ast.YieldFrom)) for one in below):
+            if names.count(node.name) > 1 or node.name in VALUE_METHODS:
+                yield ("L23", node.lineno, "another function has the name of a generator")
+            if any(isinstance(one, ast.Return) and one.value is not None for one in below):
+                yield ("L23", node.lineno, "a generator that returns a value")
+            if node.decorator_list or node.name in DUNDERS:
+                yield ("L23", node.lineno, "a generator with a decorator or with two underscores")
 
 
 def iterated(file, node):
@@ -459,7 +475,7 @@ def check_classes_as_values(file, files):
 
 CHECKS = [
     check_text, check_file_name, check_imports, check_module_level, check_names, check_statements, check_definitions,
-    check_purity, check_calls, check_sets, check_loops, check_members, check_classes_as_values,
+    check_purity, check_calls, check_generators, check_sets, check_loops, check_members, check_classes_as_values,
 ]
 
 
@@ -487,6 +503,8 @@ BROKEN = [
     ("L22", "def low(text):\n    return int(text, base=2)\n"), ("L23", "def low(a, b):\n    return zip(a, b)\n"),
     ("L23", "def low(row):\n    for at in row:\n        row.append(at)\n"),
     ("L23", "def steps(k):\n    yield k\n\ndef low(k):\n    return steps(k)\n"),
+    ("L23", "def many(k):\n    yield k\n"), ("L23", "def steps(k):\n    yield k\n    return k\n"),
+    ("L5", "class Low:\n    def __getitem__(self, at):\n        return at\n"),
     ("L24", "def low(row):\n    return set(row)\n"), ("L25", "def low(row):\n    return row.encode()\n"),
     ("L26", "class Low:\n    def __init__(self):\n        self.real = 1\n"),
     ("L27", "def low(k):\n    return 'a % b'\n"), ("L27", "def low(k):\n    return 2 ** k\n"),

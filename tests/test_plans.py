@@ -2,6 +2,7 @@
 
 from tests.helpers import GREAT, OUTSIDE, Case, as_lists, large_networks, rows_of, small_networks, sums_of
 
+from whichdepot.costs import Costs
 from whichdepot.errors import BadCount, BadLength, NoCustomer, NoDepot, NoRoute, OtherNetwork, TooMany
 from whichdepot.networks import Network
 from whichdepot.plans import Plan
@@ -9,17 +10,6 @@ from whichdepot.shapes import complete_network
 from whichdepot.totals import Totals
 
 NETWORK = Network.read("2 x 3: 0-0 0-2 1-0 1-1")
-
-
-class AmountsOf:
-    """What a plan needs of costs: their network, and their amounts one after the other."""
-
-    def __init__(self, network, amounts):
-        self.network = network
-        self.amounts = amounts
-
-    def __iter__(self):
-        return iter(self.amounts)
 
 
 class Construction(Case):
@@ -143,17 +133,17 @@ class Cost(Case):
 
     def test_cost(self):
         amounts = [5, -7, 10 ** 12, 0]
-        self.same(Plan(NETWORK, [2, 1, 3, 9]).cost(AmountsOf(NETWORK, amounts)), 3 * 10 ** 12 + 3)
-        self.same(Plan.empty(NETWORK).cost(AmountsOf(NETWORK, amounts)), 0)
-        self.same(Plan.empty(Network(1, 1, [])).cost(AmountsOf(Network(1, 1, []), [])), 0)
+        self.same(Plan(NETWORK, [2, 1, 3, 9]).cost(Costs(NETWORK, amounts)), 3 * 10 ** 12 + 3)
+        self.same(Plan.empty(NETWORK).cost(Costs(NETWORK, amounts)), 0)
+        self.same(Plan.empty(Network(1, 1, [])).cost(Costs(Network(1, 1, []), [])), 0)
         for counts in rows_of(4, 2):
             expected = sum(count * amount for count, amount in zip(counts, amounts))
-            self.same(Plan(NETWORK, counts).cost(AmountsOf(Network.read(str(NETWORK)), amounts)), expected)
+            self.same(Plan(NETWORK, counts).cost(Costs(Network.read(str(NETWORK)), amounts)), expected)
 
     def test_other_network(self):
         network = complete_network(2, 2)
         for other in [Network(2, 3, network.routes), Network(3, 2, network.routes), Network(2, 2, network.routes[1:])]:
-            self.refuses(OtherNetwork(), Plan.empty(network).cost, AmountsOf(other, [0] * len(other)))
+            self.refuses(OtherNetwork(), Plan.empty(network).cost, Costs(other, [0] * len(other)))
 
     def test_lists_for_tuples(self):
         self.assertEqual(Plan(Network(2, 3, as_lists(NETWORK.routes)), (1, 1, 1, 1)), Plan(NETWORK, [1] * 4))

@@ -33,7 +33,7 @@ def serve_totals(network, totals):
     # Without an overflow, a way to a customer with demand left exists as long as a depot has supply left.
     while any(supplies):
         ways = _sending_ways(network, counts, supplies)
-        _send(counts, supplies, demands, [way for way in ways if demands[way[-1]] > 0][0])
+        send_units(counts, supplies, demands, [way for way in ways if demands[way[-1]] > 0][0])
     return Plan(network, [counts[route] for route in network])
 
 
@@ -54,7 +54,7 @@ def _sending_ways(network, counts, supplies):
     return list(ways.values())
 
 
-def _send(counts, supplies, demands, way):
+def send_units(counts, supplies, demands, way):
     """Send as many units along the way as supply, demand and the counts that become less allow."""
     gaining = list(zip(way[::2], way[1::2]))
     losing = list(zip(way[2::2], way[1::2]))
