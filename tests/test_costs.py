@@ -250,6 +250,14 @@ class Fair(Case):
                     amounts = [factor ** (at % 7) * amount for at, amount in enumerate(mixed_amounts(network, seed))]
                     self.agrees(Costs(network, amounts), unfair_by_words(network, amounts, cycles))
 
+    def test_fair_is_a_property_that_changes_nothing(self):
+        self.assertIs(type(vars(Costs)["fair"]), property)
+        for amounts in [[1, 2, 3, 4], [1, 2, 3, 5]]:
+            costs = Costs(complete_network(2, 2), amounts)
+            kept = dict(vars(costs))
+            self.same([costs.fair, costs.fair, costs.amounts], [amounts[3] == 5, amounts[3] == 5, amounts])
+            self.same([list(vars(costs)), vars(costs) == kept], [list(kept), True])
+
     def agrees(self, costs, cycle):
         """Assert that this is the first unfair cycle, or that there is none."""
         self.same(costs.first_unfair(), cycle)

@@ -6,7 +6,7 @@ import types
 from tests.helpers import GREAT, Case, all_networks, as_lists, as_tuples, large_networks, small_networks, subsets
 from tests.searches import cycles_by_routes, cycles_by_words
 
-from whichdepot.cycles import cycle_halves, each_cycle, is_cycle
+from whichdepot.cycles import cycle_halves, each_cycle, found_cycles, is_cycle
 from whichdepot.networks import Network
 from whichdepot.shapes import complete_network, ring_network
 
@@ -40,6 +40,12 @@ class Cycles(Case):
         self.assertIs(type(found), types.GeneratorType)
         self.same(next(found), ((0, 1), (0, 1)))
         self.same(len(list(found)), 2)
+
+    def test_list_of_all_cycles(self):
+        for network in [complete_network(3, 3), ring_network(8), Network(8, 8, []), *all_networks(3, 3)[::37]]:
+            self.same(found_cycles(network), list(each_cycle(network)))
+        found_cycles(complete_network(3, 3)).clear()
+        self.same(len(found_cycles(complete_network(3, 3))), 15)
 
     def test_none(self):
         for network in [Network(1, 8, [(0, at) for at in range(8)]), Network(8, 8, []), Network(2, 2, [(0, 0), (1, 1)])]:

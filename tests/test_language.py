@@ -2,6 +2,7 @@
 
 import ast
 import builtins
+import functools
 import os
 import re
 import unittest
@@ -51,6 +52,7 @@ NO_ATTRIBUTES = set(
     "items keys values pop update append clear extend insert remove reverse setdefault sort args encode decode hex"
     " fromhex format format_map mro".split()
 )
+CHANGING = set("append extend insert pop remove clear reverse update setdefault add discard".split())
 ONCE = {"zip", "enumerate", "reversed", "range", "map"}
 VIEWS = {"items", "keys", "values"}
 TAKERS = {"list", "tuple", "dict", "sorted", "sum", "any", "all", "enumerate", "zip"}
@@ -337,15 +339,98 @@ def check_definitions(file, files):
 
 
 def check_purity(file, files):
-    """L5: operators, properties and the like assign no attribute and no item, and sum up plainly."""
+    """L5: operators, properties and the like, and all that they call, change nothing but what they created."""
+    reached = reached_by_operators(tuple(files))
     for node in file.all(ast.FunctionDef):
-        plain = [below.id for below in node.decorator_list if isinstance(below, ast.Name)]
-        if plain == ["property"] or node.name in DUNDERS - {"__init__", "__setitem__", "__call__"}:
-            for below in ast.walk(node):
-                if isinstance(below, (ast.Attribute, ast.Subscript)) and not isinstance(below.ctx, ast.Load):
-                    yield ("L5", below.lineno, "an operator or a property that changes something")
-                if isinstance(below, ast.AugAssign) and not isinstance(below.value, ast.Constant):
-                    yield ("L5", below.lineno, "a sum in an operator")
+        if node in reached:
+            for line, what in changes_of(file, node):
+                yield ("L5", line, f"{node.name}, which an operator or a property runs, {what}")
+
+
+def runs_by_itself(node):
+    """Whether a function is a property, or a method that runs without being called by its name."""
+    plain = [below.id for below in node.decorator_list if isinstance(below, ast.Name)]
+    return plain == ["property"] or node.name in DUNDERS - {"__init__", "__setitem__", "__call__"}
+
+
+@functools.lru_cache(maxsize=None)
+def reached_by_operators(files):
+    """The operators and properties of the package, and all functions and methods that they may call, by their names."""
+    found = [(file, node) for file in files for node in file.all(ast.FunctionDef) if runs_by_itself(node)]
+    for file, node in found:
+        found.extend(pair for pair in called_by(file, node, files) if pair not in found)
+    return [node for _, node in found]
+
+
+def called_by(file, node, files):
+    """The functions, constructors and methods of the package that a function may call, each with its file."""
+    words = {below.id for below in ast.walk(node) if isinstance(below, ast.Name)} - set(bound_names(node))
+    attributes = {below.attr for below in ast.walk(node) if isinstance(below, ast.Attribute)} - {"__init__"}
+    found = []
+    for other in files:
+        known = words & set(other.top_names()) if other is file else words & set(names_from(file, other))
+        for below in other.all(ast.FunctionDef):
+            above = other.above[below]
+            maker = below.name == "__init__" and above.name in known
+            method = isinstance(above, ast.ClassDef) and below.name in attributes
+            if maker or method or (above is other.tree and below.name in known):
+                found.append((other, below))
+    return found
+
+
+def names_from(file, other):
+    """The names that a file imports from another one."""
+    nodes = [node for node in file.all(ast.ImportFrom) if node.module == f"whichdepot.{other.name[:-3]}"]
+    return [alias.name for node in nodes for alias in node.names]
+
+
+def changes_of(file, node):
+    """What a function changes that it did not create, and other things that a property must not run."""
+    created = created_names(node)
+    own = node.args.args[0].arg if node.name == "__init__" else None
+    for below in ast.walk(node):
+        owner = None
+        if isinstance(below, (ast.Yield, ast.YieldFrom)):
+            yield (below.lineno, "yields")
+        if isinstance(below, ast.Attribute) and not isinstance(below.ctx, ast.Load):
+            if not (isinstance(below.value, ast.Name) and below.value.id == own):
+                yield (below.lineno, "assigns an attribute")
+        if isinstance(below, ast.Subscript) and not isinstance(below.ctx, ast.Load):
+            owner = below.value
+        if isinstance(below, ast.Call) and isinstance(below.func, ast.Attribute) and below.func.attr in CHANGING:
+            owner = below.func.value
+        if owner is not None and not (isinstance(owner, ast.Name) and owner.id in created):
+            yield (below.lineno, "changes what it did not create")
+        if isinstance(below, ast.AugAssign) and isinstance(below.target, ast.Name):
+            if not isinstance(below.value, ast.Constant) or not isinstance(below.op, (ast.Add, ast.Sub, ast.FloorDiv)):
+                yield (below.lineno, "adds to a variable what is no literal")
+        if isinstance(below, ast.Call) and isinstance(below.func, ast.Name) and below.func.id in bound_names(node):
+            yield (below.lineno, "calls what it is passed")
+
+
+def created_names(node):
+    """The local variables of a function that are only ever assigned lists and dicts that it creates."""
+    values = {}
+    for below in ast.walk(node):
+        if isinstance(below, ast.Assign):
+            for target in below.targets:
+                if isinstance(target, ast.Name):
+                    values.setdefault(target.id, []).append(below.value)
+    made = {name for name, listed in values.items() if all(creates(value) for value in listed)}
+    targets = [below.target for below in ast.walk(node) if isinstance(below, (ast.For, ast.comprehension))]
+    targets += [target for below in ast.walk(node) if isinstance(below, ast.Assign) for target in below.targets
+                if not isinstance(target, ast.Name)]
+    other = {below.id for target in targets for below in ast.walk(target) if isinstance(below, ast.Name)}
+    return made - other - {argument.arg for argument in ast.walk(node) if isinstance(argument, ast.arg)}
+
+
+def creates(value):
+    """Whether a value is a new list or dict, as the code shows."""
+    if isinstance(value, (ast.List, ast.Dict, ast.ListComp, ast.DictComp)):
+        return True
+    if isinstance(value, ast.Call) and isinstance(value.func, ast.Name):
+        return value.func.id in ("list", "dict", "sorted")
+    return isinstance(value, ast.Subscript) and isinstance(value.slice, ast.Slice)
 
 
 def check_calls(file, files):
@@ -421,7 +506,7 @@ def check_loops(file, files):
             for below in ast.walk(row):
                 owner = None
                 if isinstance(below, ast.Call) and isinstance(below.func, ast.Attribute):
-                    if below.func.attr in ("append", "extend", "pop", "insert", "remove", "update", "clear", "setdefault"):
+                    if below.func.attr in CHANGING:
                         owner = below.func.value
                 if isinstance(below, ast.Subscript) and not isinstance(below.ctx, ast.Load):
                     owner = below.value
@@ -510,6 +595,13 @@ BROKEN = [
     ("L27", "def low(k):\n    return 'a % b'\n"), ("L27", "def low(k):\n    return 2 ** k\n"),
     ("L28", "class Low:\n    def __len__(self):\n        return self.many() + 1\n\n    def many(self):\n        return 1\n"),
     ("L5", "class Low:\n    @property\n    def many(self):\n        self.found = 1\n        return 1\n"),
+    ("L5", "class Low:\n    @property\n    def low(self):\n        return high(1)\n\n\n"
+           "def high(k):\n    return list(steps(k))\n\n\ndef steps(k):\n    yield k\n"),
+    ("L5", "class Low:\n    def __eq__(self, other):\n        return high([1]) == 1\n\n\n"
+           "def high(rows):\n    rows.append(1)\n    return 1\n"),
+    ("L5", "class Low:\n    def __add__(self, other):\n        return self.high(other)\n\n"
+           "    def high(self, other):\n        total = 1\n        total += other\n        return total\n"),
+    ("L5", "class Low:\n    def __mul__(self, other):\n        return other(1)\n"),
 ]
 
 

@@ -2,7 +2,7 @@
 
 from whichdepot.common import check_same_network, checked_quota
 from whichdepot.costs import check_fair, check_joined_fair, half_costs
-from whichdepot.cycles import cycle_halves, each_cycle
+from whichdepot.cycles import cycle_halves, found_cycles
 from whichdepot.errors import Overflow
 from whichdepot.lots import check_flexible
 from whichdepot.plans import Plan
@@ -15,7 +15,7 @@ from whichdepot.trees import Tree
 def bettering_shift(costs, plan):
     """Return the bettering shift of the plan, or None if the plan is cheapest."""
     check_same_network(costs.network, plan.network)
-    for cycle in each_cycle(costs.network):
+    for cycle in found_cycles(costs.network):
         first, second = cycle_halves(cycle)
         first_cost, second_cost = half_costs(costs, cycle)
         losing = first if second_cost < first_cost else second

@@ -1,7 +1,7 @@
 """Costs: an amount for each route of a network."""
 
 from whichdepot.common import check_count, check_counts, check_joined, check_length, checked_route
-from whichdepot.cycles import cycle_halves, each_cycle
+from whichdepot.cycles import cycle_halves, found_cycles
 from whichdepot.errors import Unfair
 
 MOST_MULTIPLE = 1000
@@ -36,7 +36,7 @@ class Costs:
 
     def first_unfair(self):
         """Return the first unfair cycle, or None if the costs are fair."""
-        for cycle in each_cycle(self._network):
+        for cycle in found_cycles(self._network):
             first, second = half_costs(self, cycle)
             if first == second:
                 return cycle

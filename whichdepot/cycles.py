@@ -3,11 +3,21 @@
 
 def each_cycle(network):
     """Yield all cycles of the network in their order."""
+    for cycle in found_cycles(network):
+        yield cycle
+
+
+# A property may run no generator: what a property needs to know of cycles, it takes from this list.
+
+
+def found_cycles(network):
+    """Return all cycles of the network in their order, a list."""
     ways = [((depot,), ()) for depot in range(network.depots)]
+    cycles = []
     for _ in range(network.depots - 1):
         ways = _longer_ways(network, ways)
-        for cycle in sorted(_closed_ways(network, ways)):
-            yield cycle
+        cycles.extend(sorted(_closed_ways(network, ways)))
+    return cycles
 
 
 def _longer_ways(network, ways):
