@@ -128,6 +128,31 @@ def price_trees_by_words(network, amounts):
     return sorted(found, key=lambda routes: quota_of(network, routes))
 
 
+def behind_by_words(routes, route):
+    """The depots and the customers behind a route of the tree with these routes, by point 23."""
+    return connected_to(("c", route[1]), [other for other in routes if other != route])
+
+
+def count_row_by_words(routes, supplies, demands):
+    """The count row of the tree with these routes, by point 24."""
+    found = []
+    for route in routes:
+        depots, customers = behind_by_words(routes, route)
+        found.append(sum(demands[at] for at in customers) - sum(supplies[at] for at in depots))
+    return found
+
+
+def owing_by_words(network, routes, reference):
+    """The owing routes of the price tree with these routes, by point 43."""
+    quota = quota_of(network, routes)
+    found = []
+    for route in routes:
+        depots, _ = behind_by_words(routes, route)
+        if sum(reference[at] for at in depots) > sum(quota[at] for at in depots):
+            found.append(route)
+    return found
+
+
 def cycles_by_words(network):
     """All cycles, found among all candidates by the words of point 19, in their order."""
     found = []

@@ -4,15 +4,19 @@ import inspect
 
 from tests.helpers import Case
 
-from whichdepot import building, cheapest, costs, cycles, flips, greedy, lots, moves, networks, plans, prices, quotas
-from whichdepot import rooted, serving, shapes, shifts, spanning, splitting, tables, totals, trees
+from whichdepot import building, changes, cheapest, costs, cycles, demands, flips, greedy, lots, moves, nets, networks
+from whichdepot import numbering, plans, prices, quotas, raises, rooted, serving, shapes, shifts, spanning, splitting
+from whichdepot import tables, totals, trees
 from whichdepot.cheapest import bettering_shift
 from whichdepot.costs import Costs
 from whichdepot.cycles import each_cycle
 from whichdepot.errors import Overflow
+from whichdepot.nets import Net
 from whichdepot.networks import Network
+from whichdepot.numbering import Numbering
 from whichdepot.plans import Plan
 from whichdepot.quotas import flexible_quotas
+from whichdepot.raises import leaving_raises
 from whichdepot.serving import serve_totals
 from whichdepot.shapes import complete_network, stairs_network
 from whichdepot.tables import Table
@@ -60,6 +64,14 @@ FUNCTIONS = {
     flips: {
         "first_price_tree": "costs", "flip_tree": "costs tree route", "settle_tree": "costs tree totals",
     },
+    changes: {"unit_way": "costs totals giver taker", "adds_up": "table first second"},
+    raises: {
+        "leaving_raises": "costs quota route", "unfair_raises": "costs route", "lost_quotas": "network route",
+    },
+    demands: {
+        "loose_quotas": "network", "count_demands": "network supplies", "served_demands": "network supplies",
+        "count_bearing": "network supplies", "bearing_demands": "network supplies",
+    },
 }
 
 METHODS = {
@@ -94,6 +106,15 @@ METHODS = {
         "tree": "self quota", "tree_of_customers": "self row", "__call__": "self totals", "holders": "self totals",
         "flips": "self quota",
     },
+    numbering.Numbering: {
+        "__init__": "self table *reference", "owing": "self quota", "count_totals": "self units *inner",
+        "tree_for": "self totals *inner", "number_of": "self totals *inner", "totals_at": "self units number *inner",
+        "each": "self units *inner",
+    },
+    nets.Net: {
+        "__init__": "self places links", "ring": "places", "count_spanning": "self", "spanning_sets": "self",
+        "free_sets": "self",
+    },
 }
 
 PROPERTIES = {
@@ -103,7 +124,11 @@ PROPERTIES = {
     trees.Tree: ["network", "routes", "quota", "customer_row"],
     costs.Costs: ["network", "amounts", "fair"],
     tables.Table: ["costs", "quotas", "customer_rows"],
+    numbering.Numbering: ["table", "reference", "profile"],
+    nets.Net: ["places", "links", "network"],
 }
+
+COSTS = Costs(complete_network(2, 2), [0, 0, 0, 1])
 
 
 def parameters_of(function):
@@ -135,10 +160,23 @@ class Examples(Case):
         self.same(found, (((0, 1), (0, 1)), -1))
 
     def test_table(self):
-        table = Table(Costs(complete_network(2, 2), [0, 0, 0, 1]))
+        table = Table(COSTS)
         expected = [[(0, 1), (1, 0)], [(0, 1), (1, 0)], [(0, 0), (0, 1), (1, 0)]]
         self.same([table.quotas, table.customer_rows, table.tree((1, 0)).routes], expected)
         self.same(table.flips((1, 0)), [((0, 0), (0, 1)), ((0, 1), None), ((1, 0), None)])
+
+    def test_leaving_raises(self):
+        self.same(leaving_raises(COSTS, (1, 0), (0, 1)), [(0, None), (1, 1)])
+
+    def test_numbering(self):
+        numbering = Numbering(Table(COSTS))
+        found = [numbering.profile, numbering.owing((1, 0)), numbering.number_of(Totals([1, 0], [1, 0]))]
+        self.same(found, [[1, 1], [(0, 0)], 3])
+        first = numbering.totals_at(2, 0, inner=True)
+        self.same([numbering.count_totals(2), numbering.count_totals(2, inner=True), str(first)], [9, 1, "1 1 | 1 1"])
+
+    def test_nets(self):
+        self.same(Net.ring(3).count_spanning(), 3)
 
 
 class Interface(Case):

@@ -3,11 +3,10 @@
 from whichdepot.common import check_same_network, checked_quota
 from whichdepot.costs import check_fair, check_joined_fair, half_costs
 from whichdepot.cycles import cycle_halves, found_cycles
-from whichdepot.errors import Overflow
 from whichdepot.lots import check_flexible
 from whichdepot.plans import Plan
 from whichdepot.rooted import plan_from_depot
-from whichdepot.serving import first_overflow, send_units
+from whichdepot.serving import check_served, send_units
 from whichdepot.totals import Totals
 from whichdepot.trees import Tree
 
@@ -28,9 +27,7 @@ def bettering_shift(costs, plan):
 def cheapest_plan(costs, totals):
     """Return the cheapest plan of the totals."""
     check_fair(costs)
-    lot = first_overflow(costs.network, totals)
-    if lot is not None:
-        raise Overflow(lot)
+    check_served(costs.network, totals)
     return _found_cheapest(costs, totals)
 
 

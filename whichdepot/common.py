@@ -1,4 +1,6 @@
-"""What several modules share: checks of arguments, digits in texts, the order of lots, connected places."""
+"""What several modules share: checks of arguments, digits in texts, numbers of ways, lots, connected places."""
+
+from math import comb
 
 from whichdepot.errors import BadCount, BadLength, BadSize, NoCustomer, NoDepot, NoRoute
 from whichdepot.errors import NotInTree, NotJoined, OtherNetwork, Repeated, TooMany
@@ -113,6 +115,15 @@ def is_written_number(word, most_digits):
     if not 1 <= len(word) <= most_digits or digits_as_zeros(word) != "0" * len(word):
         return False
     return word == "0" or word[0] != "0"
+
+
+def division_ways(parts, units):
+    """Return in how many ways so many units can be divided among so many parts; 0 if the units are below 0."""
+    if units < 0:
+        return 0
+    if parts == 0:
+        return 1 if units == 0 else 0
+    return comb(parts + units - 1, units)
 
 
 def ordered_lots(depots):

@@ -22,11 +22,16 @@ def can_serve(network, totals):
     return first_overflow(network, totals) is None
 
 
-def serve_totals(network, totals):
-    """Return a plan of the totals."""
+def check_served(network, totals):
+    """Raise BadLength unless the totals fit the network, then Overflow if they cannot be served."""
     lot = first_overflow(network, totals)
     if lot is not None:
         raise Overflow(lot)
+
+
+def serve_totals(network, totals):
+    """Return a plan of the totals."""
+    check_served(network, totals)
     counts = {route: 0 for route in network}
     supplies = list(totals.supplies)
     demands = list(totals.demands)

@@ -2,10 +2,10 @@
 
 from whichdepot.common import check_totals, checked_quota
 from whichdepot.costs import check_joined_fair
-from whichdepot.errors import NotFlexible, Overflow
+from whichdepot.errors import NotFlexible
 from whichdepot.flips import entering_routes, first_price_tree
 from whichdepot.moves import moved_row
-from whichdepot.serving import first_overflow
+from whichdepot.serving import check_served
 
 
 class Table:
@@ -53,9 +53,7 @@ class Table:
         return [(leaving, _flipped_quota(tree.quota, leaving, entering)) for leaving, entering in pairs]
 
     def __call__(self, totals):
-        lot = first_overflow(self._costs.network, totals)
-        if lot is not None:
-            raise Overflow(lot)
+        check_served(self._costs.network, totals)
         holder = [tree for tree in self._trees if tree.holds(totals)][0]
         return holder.plan_for(totals)
 
