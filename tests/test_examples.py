@@ -4,19 +4,23 @@ import inspect
 
 from tests.helpers import Case
 
-from whichdepot import building, changes, cheapest, costs, cycles, demands, flips, greedy, lots, moves, nets, networks
-from whichdepot import numbering, plans, prices, quotas, raises, rooted, serving, shapes, shifts, spanning, splitting
-from whichdepot import tables, totals, trees
+from whichdepot import arrivals, building, changes, cheapest, costs, cycles, demands, desks, errors, flips, greedy, jobs
+from whichdepot import lots, moves, nets, networks, numbering, papers, plans, prices, quotas, raises, reports, rooted
+from whichdepot import serving, shapes, shifts, spanning, splitting, tables, totals, trees, verdicts
+from whichdepot.arrivals import bearing_rows, count_arrivals
 from whichdepot.cheapest import bettering_shift
 from whichdepot.costs import Costs
 from whichdepot.cycles import each_cycle
-from whichdepot.errors import Overflow
+from whichdepot.desks import Desk
+from whichdepot.errors import BadLine, Overflow
+from whichdepot.jobs import Job
 from whichdepot.nets import Net
 from whichdepot.networks import Network
 from whichdepot.numbering import Numbering
 from whichdepot.plans import Plan
 from whichdepot.quotas import flexible_quotas
 from whichdepot.raises import leaving_raises
+from whichdepot.reports import plan_lines
 from whichdepot.serving import serve_totals
 from whichdepot.shapes import complete_network, stairs_network
 from whichdepot.tables import Table
@@ -72,6 +76,20 @@ FUNCTIONS = {
         "loose_quotas": "network", "count_demands": "network supplies", "served_demands": "network supplies",
         "count_bearing": "network supplies", "bearing_demands": "network supplies",
     },
+    arrivals: {
+        "count_arrivals": "net units", "arrival_rows": "net units", "bearing_rows": "net", "hung_tree": "net costs links",
+    },
+    verdicts: {
+        "judge_network": "network", "judge_quota": "network quota", "judge_totals": "network totals",
+        "judge_plan": "costs plan", "judge_table": "costs",
+    },
+    reports: {"plan_lines": "plan", "table_lines": "numbering shown"},
+}
+
+GENERATORS = {
+    cycles: "each_cycle", spanning: "spanning_trees", quotas: "flexible_quotas", flips: "settle_tree",
+    numbering.Numbering: "each", demands: "loose_quotas served_demands bearing_demands",
+    nets.Net: "spanning_sets free_sets", arrivals: "arrival_rows bearing_rows",
 }
 
 METHODS = {
@@ -115,6 +133,30 @@ METHODS = {
         "__init__": "self places links", "ring": "places", "count_spanning": "self", "spanning_sets": "self",
         "free_sets": "self",
     },
+    papers.Paper: {"__init__": "self network", "accepted": "self", "rows": "self"},
+    papers.LotWitness: {"__init__": "self witness", "lot_row": "self"},
+    papers.QuotaPaper: {"__init__": "self network quota", "rows": "self"},
+    papers.TotalsPaper: {"__init__": "self network totals", "rows": "self"},
+    papers.PlanPaper: {"__init__": "self costs counts", "rows": "self"},
+    papers.FlexiblePaper: {"__init__": "self network quota routes", "rows": "self"},
+    papers.BarredPaper: {"__init__": "self network quota witness", "rows": "self"},
+    papers.ServedPaper: {"__init__": "self network totals counts", "rows": "self"},
+    papers.OverflowPaper: {"__init__": "self network totals witness", "rows": "self"},
+    papers.CheapestPaper: {"__init__": "self costs counts depot_prices customer_prices", "rows": "self"},
+    papers.DearerPaper: {"__init__": "self costs counts shift", "rows": "self"},
+    papers.JoinedPaper: {"__init__": "self network routes", "rows": "self"},
+    papers.PartedPaper: {"__init__": "self network depots customers", "rows": "self"},
+    papers.TablePaper: {"__init__": "self costs trees", "rows": "self"},
+    jobs.Job: {"__init__": "self costs totals", "read": "text", "solve": "self", "__str__": "self", "__eq__": "self other"},
+    desks.Desk: {
+        "__init__": "self costs totals", "change_memory": "self memory", "__getitem__": "self at",
+        "__setitem__": "self at worth", "__iter__": "self", "best_plan": "self", "best_cost": "self", "first_holder": "self",
+        "totals_number": "self", "make_table": "self", "make_paper": "self", "reprice": "self route amount",
+        "add_route": "self depot customer amount", "drop_route": "self route", "order": "self depot customer units",
+        "cancel": "self depot customer units", "move_supply": "self giver taker units",
+        "move_demand": "self giver taker units", "run": "self deeds", "undo": "self", "redo": "self",
+        "what_if": "self deeds",
+    },
 }
 
 PROPERTIES = {
@@ -126,6 +168,29 @@ PROPERTIES = {
     tables.Table: ["costs", "quotas", "customer_rows"],
     numbering.Numbering: ["table", "reference", "profile"],
     nets.Net: ["places", "links", "network"],
+    papers.Paper: ["network"],
+    papers.LotWitness: ["witness"],
+    papers.QuotaPaper: ["quota"],
+    papers.TotalsPaper: ["totals"],
+    papers.PlanPaper: ["costs", "counts"],
+    jobs.Job: ["costs", "totals"],
+    desks.Desk: ["network", "costs", "totals", "undoable", "redoable", "memory"],
+}
+
+VALUES = [
+    (networks.Network, "MOST_PLACES", 8), (networks.Network, "MOST_ROUTES", 16), (totals.Totals, "MOST_UNITS", 400),
+    (costs.Costs, "MOST_AMOUNT", 1000000000000),
+]
+
+ERRORS = {
+    "BadSize": "size", "BadLength": "length", "BadCount": "number", "TooMany": "most", "NoDepot": "depot",
+    "NoCustomer": "customer", "NoPlace": "place", "NoLink": "link", "SameEnds": "place", "Stranded": "depot",
+    "NoSupply": "depot", "NoDemand": "customer", "NotMore": "depot", "NoRoute": "route", "NotInTree": "route",
+    "NotAcross": "route", "NotPriced": "route", "Closes": "route", "Short": "route", "Below": "route", "Repeated": "entry",
+    "NotJoined": "piece", "NotSpanning": "piece", "Unbalanced": "supply demand", "Overflow": "lot", "Unfair": "cycle",
+    "NoCycle": "cycle", "NotFlexible": "row", "NotSpanningSet": "chosen", "NoNumber": "number", "Unread": "text",
+    "BadColumn": "name", "BadDeed": "word", "BadLine": "number", "DeedRefused": "position", "OtherNetwork": "",
+    "OtherTotals": "", "NotInner": "", "NothingLeft": "",
 }
 
 COSTS = Costs(complete_network(2, 2), [0, 0, 0, 1])
@@ -176,7 +241,24 @@ class Examples(Case):
         self.same([numbering.count_totals(2), numbering.count_totals(2, inner=True), str(first)], [9, 1, "1 1 | 1 1"])
 
     def test_nets(self):
-        self.same(Net.ring(3).count_spanning(), 3)
+        net = Net.ring(3)
+        found = [net.count_spanning(), count_arrivals(net, 1), list(bearing_rows(net))]
+        self.same(found, [3, 7, [(0, 1, 1), (1, 0, 1), (1, 1, 0)]])
+
+    def test_plan_lines(self):
+        found = plan_lines(Plan(complete_network(2, 2), [0, 1, 1, 0]))
+        self.same(found, ["       0    1   sum", "  0    0    1     1", "  1    1    0     1", "sum    1    1     2"])
+
+    def test_bad_line(self):
+        self.refuses(BadLine(2), Job.read, "network 1 x 1: 0-0\ncosts 05\ntotals 2 | 2")
+
+    def test_desk(self):
+        job = Job.read("network 2 x 2: 0-0 0-1 1-0 1-1\ncosts 0 0 0 1\ntotals 1 0 | 1 0")
+        desk = Desk(job.costs, job.totals)
+        desk.order(1, 1, 1)
+        first = desk.best_plan().counts
+        other = desk.what_if(("reprice", (0, 1), 5)).counts
+        self.same([first, other, desk.best_cost(), desk.undoable], [[0, 1, 1, 0], [1, 0, 0, 1], 0, 1])
 
 
 class Interface(Case):
@@ -193,6 +275,32 @@ class Interface(Case):
                 self.assertIn(name, vars(owner))
                 function = getattr(owner, name)
                 self.assertEqual([name, parameters_of(function)], [name, parameters])
+
+    def test_classes_stand_in_their_files(self):
+        for owner in METHODS:
+            self.assertRegex(inspect.getsource(inspect.getmodule(owner)), rf"(?m)^class {owner.__name__}\b")
+
+    def test_accepted_stands_in_each_claim(self):
+        for name in ["Flexible", "Barred", "Served", "Overflow", "Cheapest", "Dearer", "Joined", "Parted", "Table"]:
+            self.assertIn("accepted", vars(vars(papers)[f"{name}Paper"]))
+
+    def test_generators(self):
+        for owner, names in GENERATORS.items():
+            for name in names.split():
+                self.assertTrue(inspect.isgeneratorfunction(getattr(owner, name)), name)
+
+    def test_class_values(self):
+        for owner, name, value in VALUES:
+            self.same([vars(owner)[name], getattr(owner, name)], [value, value])
+
+    def test_errors(self):
+        for name, fields in ERRORS.items():
+            owner = vars(errors)[name]
+            self.assertEqual([owner.__bases__, parameters_of(owner.__init__) if fields else ""],
+                             [(errors.DepotError,), f"self {fields}" if fields else ""])
+        self.assertEqual(errors.DepotError.__bases__, (ValueError,))
+        found = {name for name, one in vars(errors).items() if isinstance(one, type)}
+        self.assertEqual(found, {"DepotError", *ERRORS})
 
     def test_properties(self):
         for owner, names in PROPERTIES.items():

@@ -68,10 +68,11 @@ class File:
         self.name = name
         self.text = text
         self.tree = ast.parse(text)
-        self.above = {below: node for node in ast.walk(self.tree) for below in ast.iter_child_nodes(node)}
+        self.nodes = list(ast.walk(self.tree))
+        self.above = {below: node for node in self.nodes for below in ast.iter_child_nodes(node)}
 
     def all(self, *kinds):
-        return [node for node in ast.walk(self.tree) if isinstance(node, kinds)]
+        return [node for node in self.nodes if isinstance(node, kinds)]
 
     def functions(self):
         return self.all(ast.FunctionDef, ast.Lambda)
@@ -244,12 +245,18 @@ def check_names(file, files):
             yield ("L15", 0, f"{name} is a builtin")
     known = outer | set(file.top_names()) | BUILTINS
     for node in file.all(ast.Name):
-        if isinstance(node.ctx, ast.Load) and node.id not in known:
+        if isinstance(node.ctx, ast.Load) and node.id not in known and not is_setter(file.above[file.above[node]]):
             holders = [holder for holder in holders_of(file, node) if isinstance(holder, (ast.FunctionDef, ast.Lambda))]
             if not any(node.id in bound_names(holder) for holder in holders):
                 yield ("L8", node.lineno, node.id)
         if isinstance(node.ctx, ast.Load) and node.id == "_":
             yield ("L12", node.lineno, "the name _ is read")
+
+
+def is_setter(node):
+    """Whether a node is a method for the assignment of the property of its own name."""
+    decorators = [ast.unparse(below) for below in getattr(node, "decorator_list", [])]
+    return isinstance(node, ast.FunctionDef) and decorators == [f"{node.name}.setter"]
 
 
 def holders_of(file, node):
@@ -267,8 +274,12 @@ def check_statements(file, files):
         if not isinstance(node, STATEMENTS):
             if not (isinstance(node, ast.Expr) and isinstance(node.value, (ast.Yield, ast.YieldFrom))):
                 yield ("L6", node.lineno, "a statement that is not allowed")
-        if isinstance(node, (ast.Try, ast.Match, ast.With, ast.Assert)):
+        if isinstance(node, (ast.Match, ast.With, ast.Assert)) or (isinstance(node, ast.Try) and node.finalbody):
             yield ("L6", node.lineno, "a statement whose rules are not looked at here")
+        if isinstance(node, ast.Try):
+            caught = [handler.type for handler in node.handlers]
+            if not all(isinstance(one, ast.Name) and one.id in own_errors(files) for one in caught):
+                yield ("L19", node.lineno, "an error that is not the package's own is caught")
         targets = [node.target] if isinstance(node, ast.For) else node.targets if isinstance(node, ast.Assign) else []
         if any(isinstance(below, ast.List) for target in targets for below in ast.walk(target)):
             yield ("L6", node.lineno, "a target in square brackets")
@@ -297,12 +308,22 @@ def check_statements(file, files):
                     yield ("L20", node.lineno, "is beside another value")
 
 
+def own_errors(files):
+    """The names of the error classes of the package: those whose base class is an error."""
+    found = {"ValueError"}
+    for file in files:
+        for node in file.all(ast.ClassDef):
+            if any(isinstance(base, ast.Name) and base.id in found for base in node.bases):
+                found.add(node.name)
+    return found - {"ValueError"}
+
+
 def check_definitions(file, files):
     """L4, L5, L28: functions, classes and decorators."""
     for node in file.all(ast.ClassDef):
         if node.decorator_list or node.keywords or file.above[node] is not file.tree:
             yield ("L5", node.lineno, "a class with a decorator or a keyword, or not at module level")
-        names = [below.name for below in node.body if isinstance(below, ast.FunctionDef)]
+        names = [below.name for below in node.body if isinstance(below, ast.FunctionDef) and not is_setter(below)]
         if "__getitem__" in names and "__iter__" not in names:
             yield ("L5", node.lineno, "__getitem__ without __iter__")
         for below in node.body:
@@ -317,7 +338,7 @@ def check_definitions(file, files):
     for node in file.all(ast.FunctionDef):
         in_class = isinstance(file.above[node], ast.ClassDef)
         decorators = [below.id if isinstance(below, ast.Name) else "?" for below in node.decorator_list]
-        if decorators and (not in_class or decorators not in (["property"], ["staticmethod"], ["classmethod"])):
+        if decorators and not is_setter(node) and (not in_class or decorators not in (["property"], ["staticmethod"], ["classmethod"])):
             yield ("L4", node.lineno, "a decorator")
         if node.name.startswith("__") and not in_class:
             yield ("L28", node.lineno, node.name)
@@ -537,7 +558,8 @@ def check_members(file, files):
     for name in sorted((assigned | special) & builtin_names - {"count", "index", "title", "find", "get", "copy"}):
         yield ("L26", 0, name)
     for node in file.all(ast.Attribute):
-        if node.attr not in methods | special | assigned | values | VALUE_METHODS | {"__init__"}:
+        known = methods | special | assigned | values | VALUE_METHODS | {"__init__"}
+        if node.attr not in known and not is_setter(file.above[node]):
             yield ("L18", node.lineno, f"{node.attr} is assigned by no class")
         if isinstance(node.ctx, ast.Store) and not isinstance(node.value, ast.Name):
             yield ("L18", node.lineno, "an attribute that is not assigned through a local name")
@@ -553,7 +575,7 @@ def check_classes_as_values(file, files):
         called = isinstance(above, ast.Call) and above.func is node
         asked = isinstance(above, ast.Call) and isinstance(above.func, ast.Name) and above.func.id == "isinstance"
         key = isinstance(above, ast.keyword) and above.arg == "key"
-        if not (called or asked or key or isinstance(above, (ast.ClassDef, ast.Attribute))):
+        if not (called or asked or key or isinstance(above, (ast.ClassDef, ast.Attribute, ast.ExceptHandler))):
             if not (isinstance(above, ast.FunctionDef) and node in above.decorator_list):
                 yield ("L18", node.lineno, f"{node.id} as a value")
 
@@ -602,6 +624,11 @@ BROKEN = [
     ("L5", "class Low:\n    def __add__(self, other):\n        return self.high(other)\n\n"
            "    def high(self, other):\n        total = 1\n        total += other\n        return total\n"),
     ("L5", "class Low:\n    def __mul__(self, other):\n        return other(1)\n"),
+    ("L4", "class Low:\n    def many(self):\n        return 1\n\n    @other.setter\n    def many(self, value):\n"
+           "        pass\n"),
+    ("L19", "def low(row):\n    try:\n        return high(row)\n    except ValueError:\n        return 1\n\n\n"
+            "def high(row):\n    return row\n"),
+    ("L6", "def low(row):\n    try:\n        return len(row)\n    finally:\n        pass\n"),
 ]
 
 

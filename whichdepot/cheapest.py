@@ -46,6 +46,20 @@ def quota_tree(costs, quota):
     return Tree(costs.network, _found_cheapest(costs, Totals.spread(costs.network, row)).support)
 
 
+def cheapest_prices(costs, plan):
+    """Return prices that show that the plan, which must be cheapest, is so: a list of depot and of customer prices.
+
+    No route costs less than the prices of its two places together, and each route that is used costs as much.
+    """
+    counts = {route: count for route, count in zip(costs.network, plan.counts)}
+    depots = costs.network.depots
+    places = list(range(depots + costs.network.customers))
+    # A cheapest plan leaves no round way with a cost below 0, so there are cheapest ways.
+    ways = _cheapest_ways(_sending_steps(costs, counts), places)
+    least = [ways[place][0] for place in places]
+    return ([-cost for cost in least[:depots]], least[depots:])
+
+
 def _found_cheapest(costs, totals):
     """Return a plan of totals that can be served which is cheapest, also if the costs are not fair."""
     counts = {route: 0 for route in costs.network}

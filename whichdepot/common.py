@@ -105,6 +105,16 @@ def checked_quota(network, quota):
     return tuple(quota)
 
 
+def is_quota_row(network, row):
+    """Say whether the row, of any integers, has a number from 0 to 99 for each depot of the network."""
+    return len(row) == network.depots and all([0 <= number <= MOST_IN_QUOTA for number in row])
+
+
+def is_place_list(places, many):
+    """Say whether the list, of any integers, consists of different numbers of so many places."""
+    return len(set(places)) == len(places) and all([0 <= place < many for place in places])
+
+
 def digits_as_zeros(text):
     """Return the text with 0 in the place of every digit, so that the shapes of texts can be compared."""
     return "".join(["0" if character in DIGITS else character for character in text])

@@ -44,11 +44,16 @@ def entering_routes(costs, tree):
     return [(route, None if back is None else back[1]) for route, back in backs]
 
 
-def _least_back(costs, tree, slacks, leaving):
-    """Return the least slack of the routes back and the route that has it, or None if there is no route back."""
+def routes_back(costs, tree, slacks, leaving):
+    """Return the routes back of a route of the tree, each as a tuple of its slack and the route."""
     depots, customers = tree.behind(leaving)
     pairs = list(zip(slacks, costs.network))
-    backs = [(slack, route) for slack, route in pairs if route[0] in depots and route[1] not in customers]
+    return [(slack, route) for slack, route in pairs if route[0] in depots and route[1] not in customers]
+
+
+def _least_back(costs, tree, slacks, leaving):
+    """Return the least slack of the routes back and the route that has it, or None if there is no route back."""
+    backs = routes_back(costs, tree, slacks, leaving)
     return min(backs) if backs else None
 
 

@@ -76,6 +76,13 @@ class Plan:
         return isinstance(other, Plan) and self._network == other._network and self._counts == other._counts
 
 
+def is_plan_row(network, counts):
+    """Say whether the row, of any integers, has the counts of a plan of the network."""
+    if len(counts) != len(network) or not all([0 <= count <= Totals.MOST_UNITS for count in counts]):
+        return False
+    return sum(counts) <= Totals.MOST_UNITS
+
+
 def _found_totals(network, counts):
     """Return the totals of a plan with these counts."""
     sent = list(zip(network, counts))

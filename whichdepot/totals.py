@@ -25,10 +25,9 @@ class Totals:
     @classmethod
     def read(cls, text):
         """Return the totals that the text writes."""
-        sides = [side.split(" ") for side in text.split(" | ")]
-        if len(sides) != 2 or not all([is_written_number(word, MOST_DIGITS) for side in sides for word in side]):
+        if not is_written_totals(text):
             raise Unread(text)
-        supplies, demands = sides
+        supplies, demands = _written_sides(text)
         return cls([int(word) for word in supplies], [int(word) for word in demands])
 
     @classmethod
@@ -120,6 +119,17 @@ def add_totals(first, *others):
     for other in others:
         total = total + other
     return total
+
+
+def is_written_totals(text):
+    """Say whether the text has the form of totals, whatever its numbers are."""
+    sides = _written_sides(text)
+    return len(sides) == 2 and all([is_written_number(word, MOST_DIGITS) for side in sides for word in side])
+
+
+def _written_sides(text):
+    """Return the words of each side of a text, a list of lists."""
+    return [side.split(" ") for side in text.split(" | ")]
 
 
 def _check_balanced(supply, demand):

@@ -117,6 +117,17 @@ def _checked_routes(network, routes):
     return chosen
 
 
+def is_tree_list(network, routes):
+    """Say whether the list, of any pairs of integers, consists of the routes of a tree of the network."""
+    labels = place_labels(network.depots, network.customers, [])
+    for depot, customer in routes:
+        # A route that is repeated has two places that are connected already.
+        if (depot, customer) not in network or labels[depot] == labels[network.depots + customer]:
+            return False
+        labels = merged_labels(labels, depot, network.depots + customer)
+    return not any(labels)
+
+
 def _found_behind(network, routes, route):
     """Return the depots and the customers behind a route of a tree with these routes."""
     others = [other for other in routes if other != route]
