@@ -18,8 +18,9 @@ def count_arrivals(net, units):
 def arrival_rows(net, units):
     """Yield all arrival rows in ascending order."""
     check_count(units, 0, MOST_SENT)
+    supplies = [units] * len(net.links)
     # What arrives is a demand that the links can serve; served_demands raises TooMany if there are more than 1000.
-    for row in served_demands(net.network, [units] * len(net.links)):
+    for row in served_demands(net.network, supplies):
         yield row
 
 

@@ -48,7 +48,8 @@ def bearing_demands(network, supplies):
     # depots. A tree stays one when a copy of a depot is put in with a single route, and no other rows arise: what else
     # is joined to the copy can be joined to the depot instead. So every further unit only adds to the rows.
     supplying = copy_depots(network, [1 if supply > 0 else 0 for supply in supplies])
-    starts = list(flexible_quotas(supplying.turned()))
+    turned = supplying.turned()
+    starts = list(flexible_quotas(turned))
     for row in _with_units(network, starts, [max(0, supply - 1) for supply in supplies]):
         yield row
 

@@ -160,7 +160,7 @@ class Desk:
 
     def best_plan(self):
         """Return the cheapest plan of the totals for the costs with broken ties."""
-        return _best_plan((self._costs, self._totals))
+        return _best_plan(self._now())
 
     def best_cost(self):
         """Return the cost of the best plan."""
@@ -188,36 +188,36 @@ class Desk:
 
     def reprice(self, route, amount):
         """Give the route this amount."""
-        self._do(_repriced((self._costs, self._totals), route, amount))
+        self._do(_repriced(self._now(), route, amount))
 
     def add_route(self, depot, customer, amount):
         """Add a route with this amount."""
-        self._do(_with_route_added((self._costs, self._totals), depot, customer, amount))
+        self._do(_with_route_added(self._now(), depot, customer, amount))
 
     def drop_route(self, route):
         """Remove the route."""
-        self._do(_with_route_dropped((self._costs, self._totals), route))
+        self._do(_with_route_dropped(self._now(), route))
 
     def order(self, depot, customer, units):
         """Add the units to the supply of the depot and to the demand of the customer."""
-        self._do(_ordered((self._costs, self._totals), depot, customer, units))
+        self._do(_ordered(self._now(), depot, customer, units))
 
     def cancel(self, depot, customer, units):
         """Subtract the units from the supply of the depot and from the demand of the customer."""
-        self._do(_cancelled((self._costs, self._totals), depot, customer, units))
+        self._do(_cancelled(self._now(), depot, customer, units))
 
     def move_supply(self, giver, taker, units):
         """Move units of supply from one depot to another."""
-        self._do(_with_supply_moved((self._costs, self._totals), giver, taker, units))
+        self._do(_with_supply_moved(self._now(), giver, taker, units))
 
     def move_demand(self, giver, taker, units):
         """Move units of demand from one customer to another."""
-        self._do(_with_demand_moved((self._costs, self._totals), giver, taker, units))
+        self._do(_with_demand_moved(self._now(), giver, taker, units))
 
     def run(self, *deeds):
         """Perform the deeds as one deed."""
         _check_deeds(deeds)
-        state = (self._costs, self._totals)
+        state = self._now()
         for position, deed in enumerate(deeds):
             try:
                 state = _after_deed(state, deed)
@@ -229,7 +229,7 @@ class Desk:
         """Take back the last deed that has not been taken back."""
         if not self._before:
             raise NothingLeft()
-        self._after.append((self._costs, self._totals))
+        self._after.append(self._now())
         self._keep(self._before.pop())
 
     def redo(self):
@@ -242,7 +242,7 @@ class Desk:
     def what_if(self, *deeds):
         """Return the best plan after the deeds, which are not performed."""
         _check_deeds(deeds)
-        state = (self._costs, self._totals)
+        state = self._now()
         for deed in deeds:
             state = _after_deed(state, deed)
         return _best_plan(state)
@@ -255,6 +255,10 @@ class Desk:
 
     def __iter__(self):
         return iter(self._routes)
+
+    def _now(self):
+        """Return the state of the desk."""
+        return (self._costs, self._totals)
 
     def _do(self, state):
         """Go on to the state that a deed leads to."""
@@ -272,7 +276,7 @@ class Desk:
 
     def _remember(self):
         """Remember the state as one that undoing leads back to."""
-        self._before.append((self._costs, self._totals))
+        self._before.append(self._now())
         self._forget()
 
     def _forget(self):
