@@ -385,10 +385,12 @@ class WrongTotals(Case):
         self.refuses(Overflow([0, 1]), numbering.tree_for, Totals([1, 1, 0], [1, 0, 1]))
 
     def test_units_before_numbers(self):
-        for wrong in [401, *OUTSIDE]:
-            for inner in [False, True]:
-                self.refuses(BadCount(wrong), NUMBERING.totals_at, wrong, GREAT, inner=inner)
-                self.refuses(BadCount(wrong), NUMBERING.totals_at, wrong, 0, inner=inner)
+        other = Numbering(Table(Costs(Network.read("2 x 3: 0-0 0-1 0-2 1-0 1-2"), [496, 481, -158, 4, -600])))
+        for numbering in [NUMBERING, other]:
+            for wrong in [401, *OUTSIDE]:
+                for number in [0, 1, numbering.count_totals(400), *OUTSIDE]:
+                    for inner in [False, True]:
+                        self.refuses(BadCount(wrong), numbering.totals_at, wrong, number, inner=inner)
 
 
 class Each(Case):

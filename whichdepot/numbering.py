@@ -66,9 +66,11 @@ class Numbering:
 
     def totals_at(self, units, number, *, inner=False):
         """Return the totals with so many units that have this number."""
-        if not 0 <= number < self.count_totals(units, inner=inner):
-            raise NoNumber(number)
+        # A number below 0 must not keep the units from being checked: their check is a statement of its own.
+        check_count(units, 0, Totals.MOST_UNITS)
         many = self._counts_of_trees(units, inner)
+        if not 0 <= number < sum(many):
+            raise NoNumber(number)
         rest = number
         at = 0
         while rest >= many[at]:
